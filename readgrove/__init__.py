@@ -1,0 +1,1 @@
+"""Readgrove: any grammar, any row of words, with papers."""
