@@ -1,4 +1,8 @@
-"""The package's files keep to the small part of Python that ../shared/LANGUAGE.md tells, as far as a walk can see."""
+"""The package's files are held against a part of ../shared/LANGUAGE.md.
+
+Looked at: file names, imports, forms, names, methods, sizes and signs. Not looked at, among others: what is kept at a
+file's top (L15), errors (L19), what is walked and changed (L23), sets (L24) and methods with two underscores (L28).
+"""
 
 import ast
 import builtins
