@@ -1,0 +1,100 @@
+"""[2]: at the bounds, in a time that is no trouble."""
+
+import random
+import time
+import unittest
+
+from readgrove.costs import least_reading, prices, right_prices
+from readgrove.errors import Endless
+from readgrove.groves import grove, grove_count, ring, tree_numbered
+from readgrove.readings import paper_against, reading, right_paper
+from readgrove.spans import cuts, facts
+from readgrove.trees import is_reading, tree_cost
+from tests.trials import spans
+
+OWN = "ABCDEFGHIJKL"
+ROW = ["a"] * 16
+PATIENCE = 60
+
+
+def dense(leaves, sizes):
+    """Forty rules of those sizes over twelve names, those of leaves among them."""
+    dice = random.Random(11)
+    rules = list(leaves)
+    while len(rules) < 40:
+        parts = tuple(dice.choice(OWN) for _ in range(dice.choice(sizes)))
+        rules.append((OWN[len(rules) % 12], parts, dice.randrange(10 ** 60)))
+    return rules
+
+
+WORDS = dense([(name, ("a",), 10 ** 60 - 1) for name in OWN], [4])
+MIXED = dense([(name, ("a",), 1) for name in OWN], [2, 3, 4])
+RINGED = dense([(name, (), 5) for name in OWN] + [(name, ("a",), 1) for name in OWN], [4])
+FULL = [(name, ("A", "B", "C", "D"), k) for k in range(3) for name in OWN] + [("D", ("a", "a", "a", "a"), 0),
+                                                                          ("A", (), 0), ("B", (), 0), ("C", (), 0)]
+UNREAD = [(name, (), 0) for name in OWN] + [(OWN[k % 12], (OWN[(k + 1) % 12],) * 4, k) for k in range(27)] + [
+    ("L", ("b", "a", "A", "A"), 1)
+]
+
+
+class Timed(unittest.TestCase):
+    def setUp(self):
+        self.begun = time.monotonic()
+
+    def tearDown(self):
+        self.assertLess(time.monotonic() - self.begun, PATIENCE)
+
+
+class Rows(Timed):
+    def test_forty_rules_each(self):
+        for grammar in (WORDS, MIXED, RINGED, FULL, UNREAD):
+            self.assertEqual(len(grammar), 40)
+            self.assertEqual(len({rule[0] for rule in grammar}), 12)
+
+    def test_reading_or_paper(self):
+        for grammar in (WORDS, MIXED, RINGED, FULL, UNREAD):
+            tree = reading(grammar, ROW)
+            paper = paper_against(grammar, ROW)
+            self.assertEqual(tree is None, paper is not None)
+            if tree is None:
+                self.assertTrue(right_paper(grammar, ROW, paper))
+            else:
+                self.assertTrue(is_reading(grammar, ROW, tree))
+        self.assertIsNone(reading(UNREAD, ROW))
+
+    def test_every_fact_holds(self):
+        self.assertEqual(facts(RINGED, ROW), sorted((name,) + span for name in OWN for span in spans(ROW)))
+        self.assertEqual(len(cuts(RINGED, ROW, 30, 0, 16, facts(RINGED, ROW))), 969)
+
+    def test_costs(self):
+        for grammar in (WORDS, MIXED, RINGED, FULL, UNREAD):
+            told = least_reading(grammar, ROW)
+            every = prices(grammar, ROW)
+            self.assertTrue(right_prices(grammar, ROW, every))
+            if told is not None:
+                self.assertEqual(tree_cost(grammar, told[1]), told[0])
+                self.assertEqual(dict(every)[("A", 0, 16)], told[0])
+
+    def test_groves(self):
+        for grammar in (WORDS, MIXED):
+            count = grove_count(grammar, ROW)
+            self.assertGreater(count, 10 ** 4)
+            for number in (0, count // 2, count - 1):
+                self.assertTrue(is_reading(grammar, ROW, tree_numbered(grammar, ROW, number)))
+
+    def test_grove_with_rings(self):
+        told = grove(RINGED, ROW)
+        self.assertEqual(len(told), 12 * len(spans(ROW)))
+        self.assertIsNotNone(ring(RINGED, told))
+        self.assertIsNone(grove_count(RINGED, ROW))
+        with self.assertRaises(Endless):
+            tree_numbered(RINGED, ROW, 0)
+
+    def test_tree_of_millions_of_knots(self):
+        grammar = [(name, (below,) * 4, 1) for name, below in zip(OWN, OWN[1:])] + [("L", (), 1)]
+        self.assertEqual(least_reading(grammar, [])[0], (4 ** 12 - 1) // 3)
+        self.assertEqual(reading(grammar, [])[0], 0)
+
+
+if __name__ == "__main__":
+    unittest.main()

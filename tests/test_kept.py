@@ -1,0 +1,79 @@
+"""[2]: nothing handed in is changed or kept, and every told list is the asker's own."""
+
+import copy
+import unittest
+
+from readgrove.costs import least_reading, prices, right_prices
+from readgrove.groves import grove, grove_count, ring, tree_numbered
+from readgrove.readings import paper_against, reading, right_paper
+from readgrove.spans import cuts, facts
+from tests.samples import GRAMMARS
+from tests.trials import FIXED, drawn_grammars, rows_for
+
+
+def spoil(told):
+    """Does away with every list in what was told."""
+    if isinstance(told, (list, tuple)):
+        for one in told:
+            spoil(one)
+    if isinstance(told, list):
+        told.append("spoiled")
+        told.reverse()
+        told[1:] = []
+
+
+def has_truth(told):
+    """Whether a whole number in what was told is a truth."""
+    if isinstance(told, (list, tuple)):
+        return any(has_truth(one) for one in told)
+    return isinstance(told, bool)
+
+
+def asked_of_row(grammar, row):
+    """Tuples (function, arguments)."""
+    known = facts(grammar, row)
+    return [
+        (facts, [grammar, row]),
+        (cuts, [grammar, row, 0, 0, len(row), known]),
+        (reading, [grammar, row]),
+        (right_paper, [grammar, row, known]),
+        (paper_against, [grammar, row]),
+        (grove, [grammar, row]),
+        (ring, [grammar, grove(grammar, row)]),
+        (grove_count, [grammar, row]),
+        (least_reading, [grammar, row]),
+        (prices, [grammar, row]),
+        (right_prices, [grammar, row, prices(grammar, row)]),
+    ] + ([(tree_numbered, [grammar, row, 0])] if grove_count(grammar, row) else [])
+
+
+TRUTHS = (right_paper, right_prices)
+
+
+class Kept(unittest.TestCase):
+    def looked_at(self, function, arguments):
+        before = copy.deepcopy(arguments)
+        told = function(*arguments)
+        self.assertEqual(arguments, before)
+        self.assertEqual(has_truth(told), function in TRUTHS, told)
+        first = copy.deepcopy(told)
+        again = function(*arguments)
+        self.assertEqual(again, first)
+        spoil(again)
+        self.assertEqual(told, first)
+        self.assertEqual(arguments, before)
+        self.assertEqual(function(*arguments), first)
+        spoil(arguments)
+        self.assertEqual(told, first)
+        self.assertEqual(function(*before), first)
+
+    def test_rows(self):
+        for grammar in FIXED + GRAMMARS + drawn_grammars()[:12]:
+            for row in rows_for(grammar, 4, 2):
+                for function, arguments in asked_of_row(list(grammar), list(row)):
+                    with self.subTest(function.__name__, grammar=grammar, row=row):
+                        self.looked_at(function, copy.deepcopy(arguments))
+
+
+if __name__ == "__main__":
+    unittest.main()
