@@ -7,6 +7,9 @@ import unittest
 from readgrove.costs import least_reading, prices, right_prices
 from readgrove.errors import Endless
 from readgrove.groves import grove, grove_count, ring, tree_numbered
+from readgrove.mends import fewest_mends, is_mend, mend_paper, mended, right_mend_paper
+from readgrove.nexts import next_words, shortest_rows, way_on
+from readgrove.plainer import back_tree, no_empty, no_single, twos
 from readgrove.readings import paper_against, reading, right_paper
 from readgrove.spans import cuts, facts
 from readgrove.trees import is_reading, tree_cost
@@ -94,6 +97,46 @@ class Rows(Timed):
         grammar = [(name, (below,) * 4, 1) for name, below in zip(OWN, OWN[1:])] + [("L", (), 1)]
         self.assertEqual(least_reading(grammar, [])[0], (4 ** 12 - 1) // 3)
         self.assertEqual(reading(grammar, [])[0], 0)
+
+
+class Stages(Timed):
+    def test_next(self):
+        for grammar in (WORDS, MIXED, RINGED, FULL, UNREAD):
+            self.assertEqual(len(shortest_rows(grammar)), 12)
+            told = way_on(grammar, ROW)
+            self.assertEqual(next_words(grammar, ROW), [] if told is None else ["a"])
+        many = [("S", tuple(a + b + c for c in "wxyz") if b < "n" else ("S", "S"), 0) for a in "abcd" for b in "efghijklmn"]
+        self.assertEqual(len(many), 40)
+        self.assertEqual(len(next_words(many, list(many[0][1]) * 4)), 36)
+
+    def test_mends(self):
+        for grammar in (WORDS, MIXED, RINGED, FULL, UNREAD):
+            row = ["b", "a"] * 8
+            count, steps, tree = fewest_mends(grammar, row)
+            self.assertTrue(is_mend(row, steps))
+            self.assertTrue(is_reading(grammar, mended(steps), tree))
+            paper = mend_paper(grammar, row)
+            self.assertEqual(len(paper), 12 * len(spans(row)))
+            self.assertEqual(dict(paper)[("A", 0, 16)], count)
+            self.assertTrue(right_mend_paper(grammar, row, paper))
+
+    def test_row_of_millions_of_words(self):
+        grammar = [(name, (below,) * 4, 1) for name, below in zip(OWN, OWN[1:])] + [("L", ("a",), 1)]
+        self.assertEqual(dict(mend_paper(grammar, ["b"]))[("A", 0, 1)], 4 ** 11)
+        self.assertEqual(fewest_mends(grammar, ["a"])[0], 4 ** 11 - 1)
+
+    def test_plainer(self):
+        for grammar in (WORDS, MIXED, RINGED, FULL, UNREAD):
+            told = [no_empty(grammar)]
+            told.append(no_single(told[-1][0]))
+            told.append(twos(told[-1][0]))
+            row = ROW[:10]
+            tree = reading(told[-1][0], row)
+            self.assertEqual(tree is None, reading(grammar, row) is None)
+            if tree is not None:
+                for _, backs in reversed(told):
+                    tree = back_tree(backs, tree)
+                self.assertTrue(is_reading(grammar, row, tree))
 
 
 if __name__ == "__main__":

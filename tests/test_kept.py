@@ -5,6 +5,9 @@ import unittest
 
 from readgrove.costs import least_reading, prices, right_prices
 from readgrove.groves import grove, grove_count, ring, tree_numbered
+from readgrove.mends import fewest_mends, is_mend, mend_paper, mended, right_mend_paper
+from readgrove.nexts import next_words, shortest_rows, way_on
+from readgrove.plainer import back_tree, no_empty, no_single, twos
 from readgrove.readings import paper_against, reading, right_paper
 from readgrove.spans import cuts, facts
 from tests.samples import GRAMMARS
@@ -47,7 +50,33 @@ def asked_of_row(grammar, row):
     ] + ([(tree_numbered, [grammar, row, 0])] if grove_count(grammar, row) else [])
 
 
-TRUTHS = (right_paper, right_prices)
+def asked_of_mends(grammar, row):
+    steps = (fewest_mends(grammar, row) or (0, [("keep", "a"), ("put", "b"), ("swap", "c", "d"), ("drop", "e")]))[1]
+    return [
+        (next_words, [grammar, row]),
+        (way_on, [grammar, row]),
+        (fewest_mends, [grammar, row]),
+        (mended, [steps]),
+        (is_mend, [row, steps]),
+        (mend_paper, [grammar, row]),
+        (right_mend_paper, [grammar, row, mend_paper(grammar, row)]),
+    ]
+
+
+def asked_of_grammar(grammar):
+    told = [(shortest_rows, [grammar]), (no_empty, [grammar]), (twos, [grammar])]
+    plain = no_empty(grammar)
+    told.append((no_single, [plain[0]]))
+    tree = reading(plain[0], way_on(grammar, []) or [])
+    if tree is not None:
+        told.append((back_tree, [plain[1], tree]))
+    return told
+
+
+TRUTHS = (right_paper, right_prices, is_mend, right_mend_paper)
+
+
+SOME = FIXED + GRAMMARS + drawn_grammars()[:12]
 
 
 class Kept(unittest.TestCase):
@@ -67,12 +96,24 @@ class Kept(unittest.TestCase):
         self.assertEqual(told, first)
         self.assertEqual(function(*before), first)
 
+    def all_looked_at(self, asked):
+        for function, arguments in asked:
+            with self.subTest(function.__name__, arguments=arguments):
+                self.looked_at(function, copy.deepcopy(arguments))
+
     def test_rows(self):
-        for grammar in FIXED + GRAMMARS + drawn_grammars()[:12]:
+        for grammar in SOME:
             for row in rows_for(grammar, 4, 2):
-                for function, arguments in asked_of_row(list(grammar), list(row)):
-                    with self.subTest(function.__name__, grammar=grammar, row=row):
-                        self.looked_at(function, copy.deepcopy(arguments))
+                self.all_looked_at(asked_of_row(list(grammar), row))
+
+    def test_mends(self):
+        for grammar in SOME:
+            for row in rows_for(grammar, 4, 2):
+                self.all_looked_at(asked_of_mends(list(grammar), row))
+
+    def test_grammars(self):
+        for grammar in SOME:
+            self.all_looked_at(asked_of_grammar(list(grammar)))
 
 
 if __name__ == "__main__":

@@ -223,3 +223,56 @@ def facts_on_ways(grammar, fact, tree, above=()):
 
 def word_count(tree):
     return sum(word_count(child) if isinstance(child, tuple) else 1 for child in tree[1])
+
+
+def slow_fruitful(grammar):
+    found = set()
+    size = -1
+    while size < len(found):
+        size = len(found)
+        found |= {rule[0] for rule in grammar if all(part in found or not is_name(part) for part in rule[1])}
+    return found
+
+
+def beginnings(grammar):
+    """A grammar of all beginnings of the rows that the grammar reads; None where it reads nothing."""
+    fruitful = slow_fruitful(grammar)
+    if grammar[0][0] not in fruitful:
+        return None
+    told = [(grammar[0][0] + "_77", (), 0)]
+    for name, parts, _ in grammar:
+        if all(part in fruitful or not is_name(part) for part in parts):
+            for k, part in enumerate(parts):
+                told.append((name + "_77", parts[:k + 1], 0))
+                if is_name(part):
+                    told.append((name + "_77", parts[:k] + (part + "_77",), 0))
+            told.append((name + "_77", (), 0))
+            told.append((name, parts, 0))
+    return told
+
+
+def goes_on(grammar, row):
+    begun = beginnings(grammar)
+    return begun is not None and reads(begun, row)
+
+
+def apart(row, other):
+    """The fewest steps (drop, put, swap) from one row to another."""
+    table = list(range(len(other) + 1))
+    for i, word in enumerate(row, 1):
+        above, table = table, [i]
+        for j, aim in enumerate(other, 1):
+            table.append(min(above[j] + 1, table[j - 1] + 1, above[j - 1] + (word != aim)))
+    return table[-1]
+
+
+def trees_to_depth(grammar, name, deep, most=12):
+    """Some right trees of a name, none deeper than so many levels."""
+    if deep == 0:
+        return []
+    told = []
+    for number, rule in enumerate(grammar):
+        if rule[0] == name:
+            choices = [trees_to_depth(grammar, part, deep - 1, most) if is_name(part) else [part] for part in rule[1]]
+            told += [(number, children) for children in itertools.islice(itertools.product(*choices), most)]
+    return told
