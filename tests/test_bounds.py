@@ -5,8 +5,10 @@ import time
 import unittest
 
 from readgrove.costs import least_reading, prices, right_prices
+from readgrove.counts import parting, rows_of_length, tree_count
 from readgrove.errors import Endless
 from readgrove.groves import grove, grove_count, ring, tree_numbered
+from readgrove.machines import both_let, is_walk, paper_none, right_none
 from readgrove.mends import fewest_mends, is_mend, mend_paper, mended, right_mend_paper
 from readgrove.nexts import next_words, shortest_rows, way_on
 from readgrove.plainer import back_tree, no_empty, no_single, twos
@@ -137,6 +139,32 @@ class Stages(Timed):
                 for _, backs in reversed(told):
                     tree = back_tree(backs, tree)
                 self.assertTrue(is_reading(grammar, row, tree))
+
+    def test_machines(self):
+        dice = random.Random(4)
+        arrows = [(dice.randrange(12), "a", dice.randrange(12)) for _ in range(60)]
+        for grammar in (WORDS, MIXED, RINGED, FULL, UNREAD):
+            for ends in ([11], [], list(range(12))):
+                machine = (12, arrows, ends)
+                told, paper = both_let(grammar, machine), paper_none(grammar, machine)
+                self.assertEqual(told is None, paper is not None)
+                if told is None:
+                    self.assertTrue(right_none(grammar, machine, paper))
+                else:
+                    self.assertTrue(is_reading(grammar, told[0], told[1]))
+                    self.assertTrue(is_walk(machine, told[0], told[2]))
+
+    def test_counts(self):
+        for grammar in (WORDS, MIXED, RINGED, FULL, UNREAD):
+            self.assertEqual(tree_count(grammar, "A", 16), grove_count(grammar, ROW) if grammar is not UNREAD else None)
+            tree_count(grammar, "A", 60)
+
+    def test_rows(self):
+        free = [(name, (word,), 0) for name in OWN for word in "ab"][:24]
+        two = free + [(OWN[k % 12], (OWN[(k + 1) % 12],) * (2 + k % 3), 0) for k in range(16)]
+        self.assertEqual(len(rows_of_length(two, 8)), 256)
+        self.assertIsNone(parting(two, list(two), 8))
+        self.assertEqual(parting(two, [("S", ("S", "S"), 0), ("S", ("a",), 0), ("S", ("b",), 0)], 8), ["a"] * 3)
 
 
 if __name__ == "__main__":

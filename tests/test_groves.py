@@ -5,20 +5,12 @@ from readgrove.groves import grove, grove_count, ring, tree_numbered
 from readgrove.trees import is_reading
 from tests.samples import TALK
 from tests.trials import (
-    BRACKETS, EMPTY_TWICE, EVEN, NOTHING, ONE_RING, THREE_RING, TWO_RING, all_grammars, has_ring, parts_of_way, reads,
-    rows_for, slow_grove, slow_trees, top_of,
+    BRACKETS, EMPTY_TWICE, EVEN, NOTHING, ONE_RING, THREE_RING, TWO_RING, all_grammars, brackets, has_ring, parts_of_way,
+    reads, rows_for, slow_grove, slow_trees, top_of,
 )
 
 RINGED = [(ONE_RING, ["a"]), (TWO_RING, ["a"]), (TWO_RING, ["b", "a"]), (EMPTY_TWICE, []), (EMPTY_TWICE, ["a"]),
           (THREE_RING, ["b"])]
-
-
-def brackets(words):
-    """In how many ways so many words are bracketed two by two."""
-    counts = [0, 1]
-    for size in range(2, words + 1):
-        counts.append(sum(counts[k] * counts[size - k] for k in range(1, size)))
-    return counts[words]
 
 
 class Groves(unittest.TestCase):

@@ -4,14 +4,18 @@ import copy
 import unittest
 
 from readgrove.costs import least_reading, prices, right_prices
+from readgrove.counts import parting, rows_of_length, tree_count
+from readgrove.desk import Desk
 from readgrove.groves import grove, grove_count, ring, tree_numbered
+from readgrove.machines import both_let, is_walk, lets, paper_none, right_none
 from readgrove.mends import fewest_mends, is_mend, mend_paper, mended, right_mend_paper
 from readgrove.nexts import next_words, shortest_rows, way_on
 from readgrove.plainer import back_tree, no_empty, no_single, twos
 from readgrove.readings import paper_against, reading, right_paper
 from readgrove.spans import cuts, facts
+from readgrove.texts import read_grammar, read_tree, shown_grammar, shown_tree, signs, text_grammar
 from tests.samples import GRAMMARS
-from tests.trials import FIXED, drawn_grammars, rows_for
+from tests.trials import EVEN, FIXED, drawn_grammars, drawn_machines, rows_for
 
 
 def spoil(told):
@@ -73,7 +77,33 @@ def asked_of_grammar(grammar):
     return told
 
 
-TRUTHS = (right_paper, right_prices, is_mend, right_mend_paper)
+def asked_of_machine(grammar, machine, row):
+    return [
+        (lets, [machine, row]),
+        (is_walk, [machine, row, [0] * (len(row) + 1)]),
+        (both_let, [grammar, machine]),
+        (paper_none, [grammar, machine]),
+        (right_none, [grammar, machine, paper_none(grammar, machine) or []]),
+    ]
+
+
+def asked_of_texts(grammar):
+    told = [
+        (tree_count, [grammar, grammar[0][0], 3]),
+        (rows_of_length, [grammar, 3]),
+        (parting, [grammar, EVEN, 4]),
+        (shown_grammar, [grammar]),
+        (read_grammar, [shown_grammar(grammar)]),
+        (signs, [shown_grammar(grammar)]),
+        (text_grammar, []),
+    ]
+    tree = reading(grammar, way_on(grammar, []) or [])
+    if tree is not None:
+        told += [(shown_tree, [grammar, tree]), (read_tree, [grammar, shown_tree(grammar, tree)])]
+    return told
+
+
+TRUTHS = (right_paper, right_prices, is_mend, right_mend_paper, lets, is_walk, right_none)
 
 
 SOME = FIXED + GRAMMARS + drawn_grammars()[:12]
@@ -114,6 +144,21 @@ class Kept(unittest.TestCase):
     def test_grammars(self):
         for grammar in SOME:
             self.all_looked_at(asked_of_grammar(list(grammar)))
+
+    def test_machines(self):
+        for grammar in SOME[:12]:
+            for machine in drawn_machines()[:6]:
+                self.all_looked_at(asked_of_machine(list(grammar), machine, ["a", "b"]))
+
+    def test_texts(self):
+        for grammar in SOME:
+            self.all_looked_at(asked_of_texts(list(grammar)))
+
+    def test_desk(self):
+        desk = Desk()
+        desk.told("rule S = a")
+        self.assertEqual([desk.told("read a"), desk.told("read b"), desk.told("read a")],
+                         ["reading S(a)", "none by 0", "reading S(a)"])
 
 
 if __name__ == "__main__":

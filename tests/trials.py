@@ -30,7 +30,8 @@ def drawn_rule(dice, name, choices):
 
 def drawn_grammar(dice, words="ab"):
     """One to four names; two names of three have a rule of words alone, so that many rows have readings."""
-    own = "SABC"[:dice.randint(1, 4)]
+    own = list("SABC"[:dice.randint(1, 4)])
+    words = list(words)
     rules = [drawn_rule(dice, name, words if dice.randrange(3) else own + words) for name in own]
     return rules + [drawn_rule(dice, dice.choice(own), own + words) for _ in range(dice.randint(1, 5))]
 
@@ -147,12 +148,14 @@ def parts_of_way(grammar, way):
     return [(part, cut[k], cut[k + 1]) for k, part in enumerate(grammar[number][1]) if is_name(part)]
 
 
-def slow_grove(grammar, row):
+def slow_grove(grammar, row, name=None):
+    """The grove of a row, or of another name over the whole row."""
     known = slow_facts(grammar, row)
-    if top_of(grammar, row) not in known:
+    top = (name or grammar[0][0], 0, len(row))
+    if top not in known:
         return []
     found = {}
-    waiting = [top_of(grammar, row)]
+    waiting = [top]
     while waiting:
         fact = waiting.pop()
         if fact not in found:
@@ -276,3 +279,32 @@ def trees_to_depth(grammar, name, deep, most=12):
             choices = [trees_to_depth(grammar, part, deep - 1, most) if is_name(part) else [part] for part in rule[1]]
             told += [(number, children) for children in itertools.islice(itertools.product(*choices), most)]
     return told
+
+
+def drawn_machine(dice, words="ab"):
+    rooms = dice.randint(1, 4)
+    arrows = [(dice.randrange(rooms), dice.choice(words), dice.randrange(rooms)) for _ in range(dice.randint(0, 7))]
+    return (rooms, arrows, [dice.randrange(rooms) for _ in range(dice.randint(0, 2))])
+
+
+@functools.lru_cache(maxsize=None)
+def drawn_machines(count=12, seed=5):
+    dice = random.Random(seed)
+    return [drawn_machine(dice) for _ in range(count)]
+
+
+def slow_lets(machine, row):
+    rooms, arrows, ends = machine
+    for rest in itertools.product(range(rooms), repeat=len(row)):
+        walk = (0,) + rest
+        if walk[-1] in ends and all((walk[k], word, walk[k + 1]) in arrows for k, word in enumerate(row)):
+            return True
+    return False
+
+
+def brackets(words):
+    """In how many ways so many words are bracketed two by two."""
+    counts = [0, 1]
+    for size in range(2, words + 1):
+        counts.append(sum(counts[k] * counts[size - k] for k in range(1, size)))
+    return counts[words]
