@@ -121,8 +121,12 @@ def best_tree(grammar, best, top):
     return made_of_best(grammar, best, top, same_word, knot_of)
 
 
-def joined(number, lists):
+def one_behind_another(lists):
     whole = []
     for one in lists:
         whole.extend(one)
     return whole
+
+
+def joined(number, lists):
+    return one_behind_another(lists)

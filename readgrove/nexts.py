@@ -2,7 +2,7 @@
 
 from readgrove.covers import marks, places_of, row_steps
 from readgrove.grammars import first_name, names, rules_of
-from readgrove.leasts import joined, least_trees, made_of_best
+from readgrove.leasts import joined, least_trees, made_of_best, one_behind_another
 from readgrove.readings import whole_fact
 from readgrove.spans import facts, no_weights, steps_by
 
@@ -40,7 +40,7 @@ def tight_rules(grammar, lengths):
 def row_by(own, rows, parts):
     if any([part in own and part not in rows for part in parts]):
         return None
-    return joined(0, [rows[part] if part in own else [part] for part in parts])
+    return one_behind_another([rows[part] if part in own else [part] for part in parts])
 
 
 # All rows of a name have the same length here, so the first one by the alphabet is made of first ones.

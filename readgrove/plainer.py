@@ -18,7 +18,8 @@ FIGURED_NAMES = 10000
 
 
 # So many names that are not taken, each with a bar and at most four figures.
-def made_names(taken, count):
+def made_names(old, count):
+    taken = marks(old)
     made = []
     tried = 0
     while len(made) < count:

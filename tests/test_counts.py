@@ -120,6 +120,12 @@ class Rows(unittest.TestCase):
         with self.assertRaises(TooMany):
             rows_of_length(used, 3)
 
+    def test_below_0(self):
+        for grammar in (EVEN, EMPTY_TWICE, BRACKETS):
+            self.assertEqual(rows_of_length(grammar, -1), [])
+            self.assertEqual(tree_count(grammar, "S", -1), 0)
+            self.assertIsNone(parting(grammar, NOTHING, -1))
+
     def test_above_eight(self):
         for grammar in (EVEN, NOTHING, BRACKETS, [("S", (), 0)]):
             for length in (9, 10, 16, 10 ** 59):

@@ -122,6 +122,11 @@ class Both(unittest.TestCase):
         self.assertEqual(paper_none(EMPTY_TWICE, NO_ARROWS), [("S", 0, 0), ("S", 1, 1), ("S", 2, 2)])
         self.assertIsNone(paper_none(EVEN, BARE))
 
+    def test_the_nearest_of_several_ends(self):
+        arrows = [(0, "a", 3), (3, "a", 2), (2, "a", 1)]
+        self.assertEqual(both_let(BRACKETS, (4, arrows, [1, 2, 3]))[::2], (["a"], [0, 3]))
+        self.assertEqual(both_let(BRACKETS, (4, arrows, [1, 2]))[::2], (["a", "a"], [0, 3, 2]))
+
     def test_a_short_row_by_a_long_tree(self):
         grammar = [("S", ("a", "a", "a"), 0), ("S", ("A",), 0), ("A", ("B", "E"), 0), ("B", ("E", "b", "E"), 0), ("E", (), 0)]
         self.assertEqual(both_let(grammar, (1, [(0, "a", 0), (0, "b", 0)], [0]))[0], ["b"])

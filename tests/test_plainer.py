@@ -3,7 +3,7 @@ import unittest
 
 from readgrove.errors import NoGrammar
 from readgrove.grammars import grammar_of, is_name, names
-from readgrove.plainer import back_tree, no_empty, no_single, twos
+from readgrove.plainer import back_tree, made_names, no_empty, no_single, twos
 from readgrove.readings import reading
 from readgrove.trees import is_reading, right_tree, row_of
 from tests.samples import NEST, PAIRS, TALK
@@ -181,7 +181,16 @@ class Plainer(unittest.TestCase):
             for chain in CHAINS + [[no_single]]:
                 self.chained(grammar, chain)
 
+    def test_made_names(self):
+        made = made_names(["M_0", "M_9999", "MM_0"], 10005)
+        self.assertEqual(len(set(made)), 10005)
+        self.assertTrue(all(re.fullmatch("[A-Z]{1,8}_[0-9]{1,4}", name) for name in made))
+        self.assertEqual(set(made) & {"M_0", "M_9999", "MM_0"}, set())
+
     def test_unfruitful_parts(self):
+        beside = [("S", ("A",), 0), ("S", ("b",), 0), ("A", ("a", "U"), 0), ("U", ("U",), 0), ("S", ("A", "b"), 0)]
+        for chain in CHAINS + [[no_single]]:
+            self.chained(beside, chain)
         self.chained(UNFRUITFUL, [no_empty, no_single, twos], 4)
 
     def test_two_hundred_within_one_another(self):

@@ -2,11 +2,11 @@ import unittest
 
 from readgrove.readings import paper_against, reading, right_paper
 from readgrove.spans import facts
-from readgrove.trees import is_reading
+from readgrove.trees import is_reading, knots
 from tests.samples import TALK
 from tests.trials import (
     BRACKETS, EMPTY_TWICE, EVEN, NOTHING, ONE_RING, THREE_RING, TWO_RING, all_grammars, facts_on_ways, reads, rows_for,
-    slow_cuts, slow_facts, spans, top_of,
+    slow_cuts, slow_facts, slow_prices, spans, top_of,
 )
 
 
@@ -45,6 +45,14 @@ class Readings(unittest.TestCase):
         self.assertIsNotNone(reading(EMPTY_TWICE, []))
         self.assertIsNotNone(reading(THREE_RING, ["b"]))
         self.assertIsNone(reading([("S", ("S",), 0)], []))
+
+    def test_the_fewest_knots(self):
+        for grammar in all_grammars():
+            for row in rows_for(grammar, 4, 4):
+                tree = reading(grammar, row)
+                if tree is not None:
+                    fewest = slow_prices([rule[:2] + (1,) for rule in grammar], row)
+                    self.assertEqual(knots(tree), fewest[top_of(grammar, row)])
 
     def test_by_hand(self):
         self.assertEqual(reading(EVEN, ["a", "b", "b", "a"]), (1, ("a", (2, ("b", (0, ()), "b")), "a")))

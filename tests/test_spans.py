@@ -1,3 +1,4 @@
+import random
 import unittest
 
 from readgrove.spans import cuts, facts
@@ -83,6 +84,16 @@ class Cuts(unittest.TestCase):
                 told = slow_cuts(grammar, row, number, i, j, set(known))
                 for some in (others + known, known + others, known * 3 + others * 2):
                     self.assertEqual(cuts(grammar, row, number, i, j, some), told)
+
+    def test_order_of_the_set_plays_no_part(self):
+        dice = random.Random(6)
+        for grammar in all_grammars(30):
+            for row in rows_for(grammar, 5, 2):
+                known = [(name, i, j) for name in {rule[0] for rule in grammar} for i, j in spans(row) if dice.randrange(2)]
+                dice.shuffle(known)
+                for number in range(len(grammar)):
+                    told = cuts(grammar, row, number, 0, len(row), known)
+                    self.assertEqual(told, slow_cuts(grammar, row, number, 0, len(row), set(known)))
 
     def test_told_twice_in_the_set_told_once(self):
         grammar = [("S", ("S",), 0), ("S", ("S", "S"), 0)]
