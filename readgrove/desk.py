@@ -3,6 +3,7 @@
 from readgrove.costs import least_reading
 from readgrove.errors import NoOrder
 from readgrove.grammars import grammar_of
+from readgrove.greats import figures_of
 from readgrove.groves import grove_count, tree_numbered
 from readgrove.mends import fewest_mends, mended
 from readgrove.nexts import next_words
@@ -22,12 +23,12 @@ def told_reading(grammar, row):
 
 def told_count(grammar, row):
     count = grove_count(grammar, row)
-    return "endless" if count is None else str(count)
+    return "endless" if count is None else figures_of(count)
 
 
 def told_least(grammar, row):
     least = least_reading(grammar, row)
-    return "none" if least is None else str(least[0]) + " " + shown_tree(grammar, least[1])
+    return "none" if least is None else figures_of(least[0]) + " " + shown_tree(grammar, least[1])
 
 
 def told_next(grammar, row):
@@ -37,7 +38,7 @@ def told_next(grammar, row):
 
 def told_mend(grammar, row):
     mend = fewest_mends(grammar, row)
-    return "none" if mend is None else " ".join([str(mend[0])] + mended(mend[1]))
+    return "none" if mend is None else " ".join([figures_of(mend[0])] + mended(mend[1]))
 
 
 ANSWERS = {

@@ -3,6 +3,7 @@
 from readgrove.covers import cuts_to, marks, part_facts, turned
 from readgrove.errors import Endless, NoReading
 from readgrove.grammars import names, rules_of
+from readgrove.greats import divided
 from readgrove.readings import whole_fact
 from readgrove.rings import ring_in, ringless
 from readgrove.spans import facts, steps_by
@@ -123,8 +124,9 @@ def numbers_below(counts, parts, number):
     rest = number
     below = []
     for part in reversed(parts):
-        below.append(rest % counts[part])
-        rest = rest // counts[part]
+        told = divided(rest, counts[part])
+        below.append(told[1])
+        rest = told[0]
     return list(reversed(below))
 
 
@@ -178,7 +180,7 @@ def tree_numbered(grammar, row, number):
     counts = fact_counts(grammar, told, order)
     top = whole_fact(grammar, row)
     if not 0 <= number < counts.get(top, 0):
-        raise NoReading(f"no reading has the number {number}")
+        raise NoReading("no reading has that number")
     own = marks(names(grammar))
     chosen = chosen_ways(grammar, told, order, counts, top, number)
     trees = {}

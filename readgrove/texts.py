@@ -2,6 +2,7 @@
 
 from readgrove.errors import NoText
 from readgrove.grammars import FIGURES, GREAT_LETTERS, grammar_of, is_name, made_of
+from readgrove.greats import figures_of
 from readgrove.trees import is_tree
 
 SMALL_LETTERS = "abcdefghijklmnopqrstuvwxyz"
@@ -29,7 +30,7 @@ def writes_number(text):
 def shown_rule(rule):
     pieces = [rule[0], "="] + list(rule[1])
     if rule[2] != 0:
-        pieces.extend([":", str(rule[2])])
+        pieces.extend([":", figures_of(rule[2])])
     return " ".join(pieces)
 
 

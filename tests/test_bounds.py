@@ -6,7 +6,8 @@ import unittest
 
 from readgrove.costs import least_reading, prices, right_prices
 from readgrove.counts import parting, rows_of_length, tree_count
-from readgrove.errors import Endless
+from readgrove.desk import Desk
+from readgrove.errors import Endless, NoReading
 from readgrove.groves import grove, grove_count, ring, tree_numbered
 from readgrove.machines import both_let, is_walk, paper_none, right_none
 from readgrove.mends import fewest_mends, is_mend, mend_paper, mended, right_mend_paper
@@ -14,8 +15,9 @@ from readgrove.nexts import next_words, shortest_rows, way_on
 from readgrove.plainer import back_tree, no_empty, no_single, twos
 from readgrove.readings import paper_against, reading, right_paper
 from readgrove.spans import cuts, facts
+from readgrove.texts import shown_grammar
 from readgrove.trees import is_reading, tree_cost
-from tests.trials import spans
+from tests.trials import fourfold, spans, value_of
 
 OWN = "ABCDEFGHIJKL"
 ROW = ["a"] * 16
@@ -99,6 +101,29 @@ class Rows(Timed):
         grammar = [(name, (below,) * 4, 1) for name, below in zip(OWN, OWN[1:])] + [("L", (), 1)]
         self.assertEqual(least_reading(grammar, [])[0], (4 ** 12 - 1) // 3)
         self.assertEqual(reading(grammar, [])[0], 0)
+
+    def test_count_of_more_than_a_million_figures(self):
+        desk = Desk()
+        for rule in shown_grammar(fourfold(OWN, 2)).split("\n"):
+            desk.told("rule " + rule)
+        told = desk.told("count")
+        self.assertEqual(len(told), 1262612)
+        self.assertTrue(told.startswith("20650635398358879243991194945816501695"))
+        self.assertTrue(value_of(told) == 2 ** 4 ** 11)
+
+    def test_numbers_of_more_than_a_million_figures(self):
+        grammar = fourfold(OWN, 2)
+        count = grove_count(grammar, [])
+        self.assertTrue(count == 2 ** 4 ** 11)
+        for number in (count, count + 1, -count):
+            with self.assertRaises(NoReading):
+                tree_numbered(grammar, [], number)
+        for number, last in ((count - 1, 12), (count // 3 * 2, 11)):
+            tree = tree_numbered(grammar, [], number)
+            for k in range(11):
+                self.assertEqual((tree[0], len(tree[1])), (k, 4))
+                tree = tree[1][3]
+            self.assertEqual(tree, (last, ()))
 
 
 class Stages(Timed):

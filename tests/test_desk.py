@@ -8,7 +8,7 @@ from readgrove.mends import fewest_mends, mended
 from readgrove.nexts import next_words
 from readgrove.readings import paper_against, reading
 from readgrove.texts import shown_grammar, shown_tree
-from tests.trials import BRACKETS, EVEN, NOTHING, all_grammars, rows_for
+from tests.trials import BRACKETS, EVEN, NOTHING, all_grammars, fourfold, rows_for, value_of
 
 
 def desk_with(*rules):
@@ -103,6 +103,21 @@ class Answers(unittest.TestCase):
         self.assertEqual(desk.told("count" + " a" * 16), "9694845")
         with self.assertRaises(NoReading):
             desk.told("tree " + "9" * 60 + " a")
+
+    def test_counts_of_more_figures_than_python_writes(self):
+        for own, ends in (("ABCDEFG", 2), ("ABCDEFG", 11), ("ABCDEFG", 12), ("ABCDEFGH", 2), ("ABCDEFGH", 10)):
+            desk = desk_with(*shown_grammar(fourfold(own, ends)).split("\n"))
+            told = desk.told("count")
+            self.assertTrue(value_of(told) == ends ** 4 ** (len(own) - 1), (own, ends))
+            self.assertNotEqual(told[0], "0")
+            self.assertEqual(desk.told("count a"), "0")
+        self.assertTrue(told == "1" + "0" * 4 ** 7)
+
+    def test_great_counts_of_rows_with_words(self):
+        desk = desk_with("S = A a A b", *shown_grammar(fourfold("ABCDEFGH", 2)).split("\n"))
+        self.assertTrue(value_of(desk.told("count a b")) == 2 ** (2 * 4 ** 7))
+        self.assertEqual(desk.told("count a"), "0")
+        self.assertTrue(desk.told("tree " + "9" * 60 + " a b").startswith("S(A(B(C(D(E(F(G(H() H() "))
 
 
 class Refusals(unittest.TestCase):

@@ -5,8 +5,8 @@ from readgrove.groves import grove, grove_count, ring, tree_numbered
 from readgrove.trees import is_reading
 from tests.samples import TALK
 from tests.trials import (
-    BRACKETS, EMPTY_TWICE, EVEN, NOTHING, ONE_RING, THREE_RING, TWO_RING, all_grammars, brackets, has_ring, parts_of_way,
-    reads, rows_for, slow_grove, slow_trees, top_of,
+    BRACKETS, EMPTY_TWICE, EVEN, NOTHING, ONE_RING, THREE_RING, TWO_RING, all_grammars, brackets, fourfold, has_ring,
+    parts_of_way, reads, rows_for, slow_grove, slow_trees, top_of,
 )
 
 RINGED = [(ONE_RING, ["a"]), (TWO_RING, ["a"]), (TWO_RING, ["b", "a"]), (EMPTY_TWICE, []), (EMPTY_TWICE, ["a"]),
@@ -167,6 +167,37 @@ class Counts(unittest.TestCase):
         for number in range(12):
             self.assertEqual(tree[0], number)
             tree = tree[1][3] if tree[1] else tree
+
+    def test_numbers_of_more_figures_than_python_writes(self):
+        grammar = fourfold("ABCDEFGH", 2)
+        count = grove_count(grammar, [])
+        self.assertTrue(count == 2 ** 4 ** 7)
+        for number in (count, count + 1, count * count, -1, -count):
+            with self.assertRaises(NoReading):
+                tree_numbered(grammar, [], number)
+            with self.assertRaises(NoReading):
+                tree_numbered(grammar, ["a"], number)
+            with self.assertRaises(Endless):
+                tree_numbered(ONE_RING, ["a"], number)
+
+    def test_great_numbers_tell_their_trees(self):
+        grammar = fourfold("ABCDEFGH", 3)
+        count = grove_count(grammar, [])
+        last = 3 ** 4 ** 6
+        self.assertTrue(count == last ** 4)
+        for number in (0, 5, last - 1, last, count // 2, 7 ** 10000 % count, count - 2, count - 1):
+            tree = tree_numbered(grammar, [], number)
+            self.assertTrue(self.number_of(tree, 8) == number)
+            self.assertTrue(is_reading(grammar, [], tree))
+
+    # By the rules without parts at the ends, the last one going fastest.
+    def number_of(self, tree, levels):
+        if levels == 1:
+            return tree[0] - 7
+        number = 0
+        for child in tree[1]:
+            number = number * 3 ** 4 ** (levels - 2) + self.number_of(child, levels - 1)
+        return number
 
 
 if __name__ == "__main__":

@@ -10,7 +10,7 @@ from readgrove.readings import reading
 from readgrove.texts import read_grammar, read_tree, shown_grammar, shown_tree, signs, text_grammar
 from readgrove.trees import is_reading
 from tests.samples import BULK, DOG_SEES_CAT, NEST, PAIRS, TALK, grown_trees, nested, plain_knots
-from tests.trials import all_grammars
+from tests.trials import all_grammars, value_of
 
 NAME = "[A-Z]{1,8}(?:_[0-9]{1,4})?"
 WORD = "[a-z]{1,8}"
@@ -98,6 +98,16 @@ class Grammars(unittest.TestCase):
             text = shown_grammar(grammar)
             self.assertEqual(read_grammar(text), grammar)
             self.assertEqual(slow_rules(text), grammar)
+
+    def test_costs_of_more_figures_than_python_writes(self):
+        for cost in (2 ** 4 ** 7, 10 ** 4300, 10 ** 4300 - 1, 10 ** 5000 + 1):
+            written = shown_grammar([("S", ("a",), 3), ("S", (), cost)])
+            self.assertEqual(written[:14], "S = a : 3\nS = ")
+            self.assertEqual(written[14:16], ": ")
+            self.assertNotEqual(written[16], "0")
+            self.assertTrue(value_of(written[16:]) == cost)
+            with self.assertRaises(NoText):
+                read_grammar(written)
 
     def test_no_text(self):
         wrong = [

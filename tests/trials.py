@@ -46,6 +46,19 @@ def all_grammars(count=60):
     return FIXED + GRAMMARS + drawn_grammars(count)
 
 
+def fourfold(own, ends):
+    """Each name stands for four of the next one; the last one has so many rules without parts."""
+    return [(name, (below,) * 4, 0) for name, below in zip(own, own[1:])] + [(own[-1], (), 0)] * ends
+
+
+def value_of(figures):
+    """The number that is written, also by more figures than Python reads at once."""
+    if len(figures) <= 500:
+        return int(figures)
+    half = len(figures) // 2
+    return value_of(figures[:-half]) * 10 ** half + value_of(figures[-half:])
+
+
 def words_in(grammar):
     return sorted({part for rule in grammar for part in rule[1] if not is_name(part)})
 
